@@ -1,0 +1,1 @@
+"""Fewthings: small worlds sought for a text of sayings."""

@@ -1,0 +1,16 @@
+"""What every file asks of a thing that is handed in, whatever it is."""
+
+LETTERS = "abcdefghijklmnopqrstuvwxyz"
+LONGEST_NAME = 12
+
+
+def is_list(thing):
+    """Whether it is a list or a tuple: each may stand for the other."""
+    return isinstance(thing, (list, tuple))
+
+
+def is_name(thing):
+    """Whether it is a text of one to twelve letters from a to z."""
+    if not isinstance(thing, str) or not 1 <= len(thing) <= LONGEST_NAME:
+        return False
+    return all([sign in LETTERS for sign in thing])
