@@ -14,3 +14,8 @@ def is_name(thing):
     if not isinstance(thing, str) or not 1 <= len(thing) <= LONGEST_NAME:
         return False
     return all([sign in LETTERS for sign in thing])
+
+
+def is_whole(thing):
+    """Whether it is a whole number: for Python True and False are some, here they are none."""
+    return isinstance(thing, int) and not isinstance(thing, bool)

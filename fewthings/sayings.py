@@ -22,6 +22,13 @@ def looked_over(signs, thing):
     return checked_saying(SignTable(signs), thing, {}, DEEPEST)
 
 
+def all_looked_over(signs, things):
+    """The list of sayings, each as tuples throughout, or NoSaying."""
+    if not is_list(things):
+        raise NoSaying("sayings are a list")
+    return [looked_over(signs, thing) for thing in things]
+
+
 def checked_saying(table, thing, scope, room):
     """The saying as tuples; scope tells the kind of each variable in it, room how deep it may be."""
     word, things = word_and_things(thing, room)

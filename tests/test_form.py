@@ -16,6 +16,12 @@ LET_METHODS = "__init__ __eq__ __repr__ __str__ __len__".split()
 WORDS_OUT = re.compile(
     r"\b(type|typing|typing_extensions|enum|Enum|IntEnum|StrEnum|Flag|IntFlag|Generic|Protocol|ABC|ABCMeta|namedtuple"
     r"|NamedTuple|TypedDict|TYPE_CHECKING|abstractmethod)\b|dataclass|overload|contextmanager")
+NAMES_OUT = """register mro elements open input version_info with_traceback add_note attrgetter breakpoint builtins compile
+copyright credits delattr dir eval exec exit gc getattr globals hasattr help id importlib license locals methodcaller os
+quit setattr super vars sys format format_map""".split()
+METHODS_IN = """append clear copy count endswith extend find get index insert isalnum isalpha isdigit islower isspace isupper
+items join keys ljust lower lstrip partition pop remove replace reverse rfind rjust rpartition rsplit rstrip setdefault
+split splitlines startswith strip update upper values zfill bit_length add discard""".split()
 NODES_OUT = (ast.With, ast.Match, ast.Global, ast.Nonlocal, ast.Yield, ast.YieldFrom, ast.Await, ast.AsyncFunctionDef,
              ast.GeneratorExp, ast.NamedExpr, ast.Div, ast.MatMult, ast.Import)
 
@@ -107,6 +113,61 @@ class Form(unittest.TestCase):
             if isinstance(node.ctx, ast.Store):
                 values.add(node.attr)
         self.assertEqual(methods & values, set())
+
+    def test_no_local_is_called_like_a_class_or_an_import_of_its_file(self):
+        for file in FILES:
+            tree = ast.parse(file.read_text("utf-8"))
+            taken = [node.name for node in tree.body if isinstance(node, ast.ClassDef)]
+            for node in tree.body:
+                if isinstance(node, ast.ImportFrom):
+                    taken.extend([drawn.asname or drawn.name for drawn in node.names])
+            for node in ast.walk(tree):
+                if isinstance(node, ast.arg):
+                    self.assertNotIn(node.arg, taken, file.name)
+                elif isinstance(node, ast.Name) and isinstance(node.ctx, ast.Store):
+                    self.assertNotIn(node.id, taken, file.name)
+
+    def test_no_two_files_draw_from_one_another(self):
+        drawn = {}
+        for file in FILES:
+            rows = [node for node in ast.parse(file.read_text("utf-8")).body if isinstance(node, ast.ImportFrom)]
+            drawn[file.stem] = {row.module.split(".")[1] for row in rows}
+        while drawn:
+            free = [name for name in drawn if not drawn[name] & set(drawn)]
+            self.assertTrue(free, drawn)
+            for name in free:
+                drawn.pop(name)
+
+    def test_names_that_are_not_used(self):
+        for file in FILES:
+            for name in bound_names(ast.parse(file.read_text("utf-8"))):
+                self.assertNotIn(name, NAMES_OUT, file.name)
+
+    def test_methods_and_values_are_known_ones(self):
+        own = list(METHODS_IN)
+        for node, where in self.each_node(ast.ClassDef):
+            own.extend([part.name for part in node.body if isinstance(part, ast.FunctionDef)])
+        for node, where in self.each_node(ast.Attribute):
+            if isinstance(node.ctx, ast.Store):
+                own.append(node.attr)
+        for node, where in self.each_node(ast.Attribute):
+            self.assertIn(node.attr, own, where)
+
+    def test_errors_that_are_taken(self):
+        for node, where in self.each_node(ast.ExceptHandler):
+            self.assertIsNotNone(node.type, where)
+            for taken in (node.type.elts if isinstance(node.type, ast.Tuple) else [node.type]):
+                self.assertNotIn(taken.id, ("Exception", "TypeError", "BaseException"), where)
+
+    def test_nothing_starred_is_handed_in(self):
+        for node, where in self.each_node(ast.Starred):
+            self.assertIsInstance(node.ctx, ast.Store, where)
+
+    def test_what_can_only_be_walked_is_not_kept(self):
+        for node, where in self.each_node(ast.Assign, ast.Return):
+            called = node.value.func if isinstance(node.value, ast.Call) else None
+            self.assertNotIn(getattr(called, "id", ""), ("zip", "enumerate", "reversed", "range", "set"), where)
+            self.assertNotIn(getattr(called, "attr", ""), ("items", "keys", "values"), where)
 
     def test_is_stands_beside_none_true_and_false(self):
         for node, where in self.each_node(ast.Compare):

@@ -78,3 +78,18 @@ def book():
         [("rain", ()), ("red", ("a",)), ("on", ("a", "b")), ("b", ("b", "b"))],
         [("zero", (), "a"), ("next", ("a",), "a"), ("of", ("a", "b"), "b"), ("one", (), "b")],
     )
+
+
+def small_book():
+    """One kind, with few cells."""
+    return Signs(["a"], [("red", ("a",))], [("next", ("a",), "a")])
+
+
+def house_book():
+    """Two kinds, with a tie between them."""
+    return Signs(["man", "house"], [("near", ("man", "house"))], [("home", ("man",), "house"), ("king", (), "man")])
+
+
+def told_of(signs):
+    """All that a book tells, to hold two of them against each other."""
+    return (signs.kinds(), signs.ties(), signs.functions())
