@@ -31,11 +31,7 @@ def naming_to(world, other):
 def least_like(world):
     """The first one, in order, of the worlds that are like this one; or TooMany."""
     in_order = cells(world.signs(), world.size())
-    rows = []
-    for naming in all_namings(world.signs(), world.size()):
-        part = renamed_part(world, naming)
-        rows.append([part[cell] for cell in in_order])
-    return World(world.signs(), world.size(), dict(zip(in_order, min(rows))))
+    return World(world.signs(), world.size(), dict(zip(in_order, min(rows_like(world)))))
 
 
 def staying(world):
@@ -43,6 +39,13 @@ def staying(world):
     part = world.part()
     found = all_namings(world.signs(), world.size())
     return [as_lists(naming) for naming in found if renamed_part(world, naming) == part]
+
+
+def rows_like(world):
+    """The values, the cells in order, of the world as each naming calls it, some perhaps twice; or TooMany."""
+    in_order = cells(world.signs(), world.size())
+    parts = [renamed_part(world, naming) for naming in all_namings(world.signs(), world.size())]
+    return [tuple([part[cell] for cell in in_order]) for part in parts]
 
 
 def as_lists(naming):
