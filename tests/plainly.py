@@ -134,3 +134,80 @@ class Sayer:
 
     def sayings(self, many, deep):
         return [self.saying(deep) for turn in range(many)]
+
+
+def is_one_of(thing, many):
+    """Whether it is a whole number from 0 on, less than so many."""
+    return isinstance(thing, int) and not isinstance(thing, bool) and 0 <= thing < many
+
+
+def things_in(signs, kind, cell):
+    """The things of the kind in the cell's row."""
+    places = {sign[0]: sign[1] for sign in signs.ties() + signs.functions()}[cell[0]]
+    return {thing for place, thing in zip(places, cell[1]) if place == kind}
+
+
+def can_be_like(signs, part, cell, lesser, value):
+    """Whether the case of the value may be told to be like that of the lesser one."""
+    kinds = {function[0]: function[2] for function in signs.functions()}
+    if cell[0] not in kinds or not is_one_of(lesser, value):
+        return False
+    kind = kinds[cell[0]]
+    met = things_in(signs, kind, cell)
+    for told in part:
+        met |= things_in(signs, kind, told)
+        met |= {part[told]} if kinds.get(told[0]) == kind else set()
+    return not met & {lesser, value}
+
+
+def shuts(signs, size, sayings, part, thing, near=None):
+    """Whether the thing is a paper for the part; near tells a world's filling, the cell that is put, and how many."""
+    if not isinstance(thing, (list, tuple)) or not thing or not isinstance(thing[0], str):
+        return False
+    if thing[0] == "broken" and len(thing) == 2:
+        return is_one_of(thing[1], len(sayings)) and \
+            tells(signs, size, told_by(signs, size, part), sayings[thing[1]]) is False
+    if thing[0] == "far" and len(thing) == 1 and near:
+        filling, put, many = near
+        return len([cell for cell in part if cell != put and part[cell] != filling[cell]]) > many
+    if thing[0] != "cell" or len(thing) != 3 or not isinstance(thing[2], (list, tuple)):
+        return False
+    still_open = [cell for cell in many_values(signs, size) if cell not in told_by(signs, size, part)]
+    found = [cell for cell in still_open if repr(cell) == repr(as_cell(thing[1]))]
+    if not found or len(thing[2]) != many_values(signs, size)[found[0]]:
+        return False
+    for value, case in enumerate(thing[2]):
+        if isinstance(case, (list, tuple)) and len(case) == 2 and case[0] == "like" and not near:
+            if not can_be_like(signs, part, found[0], case[1], value):
+                return False
+        elif not shuts(signs, size, sayings, {**part, found[0]: value}, case, near):
+            return False
+    return True
+
+
+def as_cell(thing):
+    """The cell in tuples, where it is one in lists."""
+    if isinstance(thing, (list, tuple)) and len(thing) == 2 and isinstance(thing[1], (list, tuple)):
+        return (thing[0], tuple(thing[1]))
+    return None
+
+
+def many_broken(paper):
+    """How many ("broken", k) a paper has."""
+    if paper[0] == "cell":
+        return sum(many_broken(case) for case in paper[2])
+    return 1 if paper[0] == "broken" else 0
+
+
+def spoilt(thing, others):
+    """The thing with one thing in it taken out, put twice, exchanged with the next, or replaced by each of the others."""
+    yield from others
+    if not isinstance(thing, tuple):
+        return
+    for at in range(len(thing)):
+        yield thing[:at] + thing[at + 1:]
+        yield thing[:at + 1] + thing[at:]
+        if at:
+            yield thing[:at - 1] + (thing[at], thing[at - 1]) + thing[at + 1:]
+        for part in spoilt(thing[at], others):
+            yield thing[:at] + (part,) + thing[at + 1:]
